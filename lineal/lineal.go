@@ -1,0 +1,45 @@
+// Package lineal: patterns that are matched in one pass, and documents held against them: see DOC.md.
+package lineal
+
+import (
+	"lineal/api"
+	"lineal/parse"
+	"lineal/part"
+)
+
+// Pattern is one that was read.
+type Pattern struct {
+	whole part.Part
+}
+
+// Finder finds a pattern in texts.
+type Finder struct{}
+
+// Compile reads a pattern (P3).
+func Compile(pattern string) (*Pattern, api.Errno, int) {
+	whole, err := parse.Pattern(pattern)
+	if err != nil {
+		return nil, number(err), place(err)
+	}
+	return &Pattern{whole: whole}, api.OK, 0
+}
+
+// Size tells the pattern's size (P4).
+func (p *Pattern) Size() int { return part.PatternSize(p.whole) }
+
+// Ends tells where matches from a place end (P5).
+func (p *Pattern) Ends(text string, from int) ([]int, api.Errno, int) { return nil, api.OK, 0 }
+
+// Finder makes a finder (P6).
+func (p *Pattern) Finder(states int) (*Finder, api.Errno) { return nil, api.OK }
+
+// Find tells whether the pattern matches somewhere in a text (P7).
+func (f *Finder) Find(text string, empties []int) (bool, api.Errno, int) { return false, api.OK, 0 }
+
+// Live tells how many states the store has (P8).
+func (f *Finder) Live() int { return 0 }
+
+// Validate holds a document against schemas (P11).
+func Validate(nodes []api.Node, schemas []api.Schema) ([]api.Failure, api.Errno, int) {
+	return nil, api.OK, 0
+}
