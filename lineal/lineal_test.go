@@ -149,7 +149,7 @@ func TestWrongSyntax(t *testing.T) {
 func TestWrongRanges(t *testing.T) {
 	checkWrong(t, []wrong{
 		{"a{2,1}", api.ErrRange, 1}, {"é{100,99}?", api.ErrRange, 2}, {"(a){1,0}", api.ErrRange, 3}, {"a{2,1}*", api.ErrRange, 1},
-		{"[b-a]", api.ErrRange, 2}, {"[b-a", api.ErrRange, 2}, {"[éb-a]", api.ErrRange, 4}, {"[a--]", api.ErrRange, 2}, {"[--+]", api.ErrRange, 2}, {"[^z-a]", api.ErrRange, 3}, {"[a-cz-x]", api.ErrRange, 5}, {"[a-c--+]", api.ErrRange, 5},
+		{"[b-a]", api.ErrRange, 2}, {"[b-a", api.ErrRange, 2}, {"[a-\x00]", api.ErrRange, 2}, {"[éb-a]", api.ErrRange, 4}, {"[a--]", api.ErrRange, 2}, {"[--+]", api.ErrRange, 2}, {"[^z-a]", api.ErrRange, 3}, {"[a-cz-x]", api.ErrRange, 5}, {"[a-c--+]", api.ErrRange, 5},
 		{`[\d-z]`, api.ErrRange, 3}, {`[a-\w]`, api.ErrRange, 2}, {`[\s-\S]`, api.ErrRange, 3}, {`[\W-a`, api.ErrRange, 3}, {`[z-\x41]`, api.ErrRange, 2}, {`[a-\b]`, api.ErrRange, 2}, {`[a-\-]`, api.ErrRange, 2}, {`[a-\0]`, api.ErrRange, 2},
 		{`[\uDC00-\uD800]`, api.ErrRange, 7}, {`[😀-\uFFFF]`, api.ErrRange, 5}, {`[\uE000-\uD83D]`, api.ErrRange, 7}, {`[\uD83D\uDE01-\uD83D\uDE00]`, api.ErrRange, 13},
 	})
