@@ -24,8 +24,12 @@ type Letter struct {
 	Char rune
 }
 
-// Letters tells all characters of a text, or a fault at the first bad byte.
-func Letters(text string) ([]Letter, error) {
+// Letters tells all characters of a text. It is a fault if the text has more
+// than most bytes, at that place, or else if it has a bad byte, at the first.
+func Letters(text string, most int) ([]Letter, error) {
+	if len(text) > most {
+		return nil, fault.New(fault.Long, most)
+	}
 	var letters []Letter
 	end := 0
 	for at, char := range Each(text) {

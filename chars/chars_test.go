@@ -20,7 +20,7 @@ func TestPlaces(t *testing.T) {
 		{"é€😀\x00", []Letter{{0, 0xE9}, {2, 0x20AC}, {5, 0x1F600}, {9, 0}}},
 		{"\uFEFF\uFFFD", []Letter{{0, 0xFEFF}, {3, 0xFFFD}}},
 	} {
-		got, err := Letters(c.text)
+		got, err := Letters(c.text, len(c.text))
 		if err != nil || !slices.Equal(got, c.want) {
 			t.Errorf("Letters(%q) = %v, %v, want %v", c.text, got, err, c.want)
 		}
@@ -32,7 +32,7 @@ func TestEveryCharacter(t *testing.T) {
 		if !utf8.ValidRune(char) {
 			continue
 		}
-		got, err := Letters(string(char))
+		got, err := Letters(string(char), 4)
 		if err != nil || !slices.Equal(got, []Letter{{0, char}}) {
 			t.Fatalf("character %#x: %v, %v", char, got, err)
 		}
@@ -50,11 +50,24 @@ func TestFirstBadByte(t *testing.T) {
 		{"\xf0\x8f\xbf\xbf", 0}, {"\xf0\x90\x80", 0}, {"\xf1\x80\x80\x7f", 0}, {"\xf3\x80\xc0\x80", 0}, {"\xf5\x80\x80\x80", 0},
 		{"é\xff", 2}, {"€a\x80b", 4}, {"😀\xf0\x9f\x98", 4}, {"a\xff\xff", 1}, {"ab\xe2\x82a", 2},
 	} {
-		letters, err := Letters(c.text)
+		letters, err := Letters(c.text, len(c.text))
 		var f *fault.Fault
 		if letters != nil || !errors.Is(err, fault.Text) || !errors.As(err, &f) || f.At != c.at {
 			t.Errorf("Letters(%q) = %v, %v, want a bad byte at %d", c.text, letters, err, c.at)
 		}
+	}
+}
+
+func TestTooManyBytes(t *testing.T) {
+	for _, text := range []string{"abc", "aé", "ab\xff", "\xff\xff\xff", "€"} {
+		letters, err := Letters(text, 2)
+		var f *fault.Fault
+		if letters != nil || !errors.Is(err, fault.Long) || !errors.As(err, &f) || f.At != 2 {
+			t.Errorf("Letters(%q, 2) = %v, %v", text, letters, err)
+		}
+	}
+	if got, err := Letters("aé", 3); err != nil || len(got) != 2 {
+		t.Errorf("as many bytes as may be: %v, %v", got, err)
 	}
 }
 

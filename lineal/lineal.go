@@ -3,13 +3,16 @@ package lineal
 
 import (
 	"lineal/api"
+	"lineal/chars"
 	"lineal/parse"
 	"lineal/part"
+	"lineal/program"
 )
 
 // Pattern is one that was read.
 type Pattern struct {
-	whole part.Part
+	size    int
+	program *program.Program
 }
 
 // Finder finds a pattern in texts.
@@ -21,14 +24,23 @@ func Compile(pattern string) (*Pattern, api.Errno, int) {
 	if err != nil {
 		return nil, number(err), place(err)
 	}
-	return &Pattern{whole: whole}, api.OK, 0
+	return &Pattern{size: part.PatternSize(whole), program: program.New(whole)}, api.OK, 0
 }
 
 // Size tells the pattern's size (P4).
-func (p *Pattern) Size() int { return part.PatternSize(p.whole) }
+func (p *Pattern) Size() int { return p.size }
 
 // Ends tells where matches from a place end (P5).
-func (p *Pattern) Ends(text string, from int) ([]int, api.Errno, int) { return nil, api.OK, 0 }
+func (p *Pattern) Ends(text string, from int) ([]int, api.Errno, int) {
+	letters, err := chars.Letters(text, api.MaxText)
+	if err != nil {
+		return nil, number(err), place(err)
+	}
+	if from < 0 || from > len(letters) {
+		return nil, api.ErrArg, 0
+	}
+	return p.program.Ends(letters, from), api.OK, 0
+}
 
 // Finder makes a finder (P6).
 func (p *Pattern) Finder(states int) (*Finder, api.Errno) { return nil, api.OK }

@@ -10,10 +10,7 @@ import (
 
 // Pattern reads a pattern into its alternatives, or tells its first fault.
 func Pattern(pattern string) (part.Part, error) {
-	if len(pattern) > api.MaxPattern {
-		return nil, fault.New(fault.Long, api.MaxPattern)
-	}
-	letters, err := chars.Letters(pattern)
+	letters, err := chars.Letters(pattern, api.MaxPattern)
 	if err != nil {
 		return nil, err
 	}
