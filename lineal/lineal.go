@@ -7,6 +7,7 @@ import (
 	"lineal/parse"
 	"lineal/part"
 	"lineal/program"
+	"lineal/store"
 )
 
 // Pattern is one that was read.
@@ -16,7 +17,9 @@ type Pattern struct {
 }
 
 // Finder finds a pattern in texts.
-type Finder struct{}
+type Finder struct {
+	store *store.Store
+}
 
 // Compile reads a pattern (P3).
 func Compile(pattern string) (*Pattern, api.Errno, int) {
@@ -43,13 +46,24 @@ func (p *Pattern) Ends(text string, from int) ([]int, api.Errno, int) {
 }
 
 // Finder makes a finder (P6).
-func (p *Pattern) Finder(states int) (*Finder, api.Errno) { return nil, api.OK }
+func (p *Pattern) Finder(states int) (*Finder, api.Errno) {
+	if states < 2 || states > api.MaxStates {
+		return nil, api.ErrArg
+	}
+	return &Finder{store: store.New(p.program, states)}, api.OK
+}
 
 // Find tells whether the pattern matches somewhere in a text (P7).
-func (f *Finder) Find(text string, empties []int) (bool, api.Errno, int) { return false, api.OK, 0 }
+func (f *Finder) Find(text string, empties []int) (bool, api.Errno, int) {
+	letters, err := chars.Letters(text, api.MaxText)
+	if err != nil {
+		return false, number(err), place(err)
+	}
+	return f.store.Find(letters, empties), api.OK, 0
+}
 
 // Live tells how many states the store has (P8).
-func (f *Finder) Live() int { return 0 }
+func (f *Finder) Live() int { return f.store.Live() }
 
 // Validate holds a document against schemas (P11).
 func Validate(nodes []api.Node, schemas []api.Schema) ([]api.Failure, api.Errno, int) {

@@ -2,6 +2,8 @@
 package program
 
 import (
+	"slices"
+
 	"lineal/charset"
 	"lineal/part"
 )
@@ -10,7 +12,8 @@ import (
 type Program struct {
 	steps []step
 	start int
-	word  charset.Set // kept here, since runs ask for it at every character
+	word  charset.Set // a word's characters; none, where no step asks for them
+	cuts  []rune      // between which all characters are alike
 }
 
 // matched is the place of the step at which the pattern has matched.
@@ -37,7 +40,16 @@ func New(alternatives part.Part) *Program {
 	b := &builder{}
 	b.add(step{kind: finish})
 	start := b.build(alternatives, matched)
-	return &Program{steps: b.steps, start: start, word: charset.Word()}
+	p := &Program{steps: b.steps, start: start}
+	if slices.ContainsFunc(p.steps, step.asksForWords) {
+		p.word = charset.Word()
+	}
+	p.cuts = cutsOf(p.sets())
+	return p
+}
+
+func (s step) asksForWords() bool {
+	return s.kind == test && (s.assertion == part.Edge || s.assertion == part.Between)
 }
 
 type builder struct {
