@@ -1,4 +1,5 @@
-// Package fault: what goes wrong inside a pattern or a text, as values of error.
+// Package fault: what goes wrong inside patterns, texts, documents and schemas, as
+// values of error.
 package fault
 
 import (
@@ -16,9 +17,12 @@ var (
 	Unsupported = errors.New("a pattern that needs memory")
 	Deep        = errors.New("groups too deep in one another")
 	Big         = errors.New("a pattern that is too large")
+	Tree        = errors.New("nodes that are no document")
+	Schema      = errors.New("schemas that may not be")
 )
 
-// Fault is a fault of one kind at one place, counted in bytes.
+// Fault is a fault of one kind at one place: how many bytes stand ahead of it, or
+// how many nodes or schemas, if it is theirs.
 type Fault struct {
 	Kind error
 	At   int
@@ -28,7 +32,7 @@ type Fault struct {
 func New(kind error, at int) error { return &Fault{Kind: kind, At: at} }
 
 func (f *Fault) Error() string {
-	return f.Kind.Error() + " at byte " + strconv.Itoa(f.At)
+	return f.Kind.Error() + " at " + strconv.Itoa(f.At)
 }
 
 // Unwrap lets errors.Is ask for the kind.

@@ -6,7 +6,7 @@ import (
 )
 
 func TestEachKindIsItsOwn(t *testing.T) {
-	kinds := []error{Text, Long, Syntax, Range, Count, Unsupported, Deep, Big}
+	kinds := []error{Text, Long, Syntax, Range, Count, Unsupported, Deep, Big, Tree, Schema}
 	for i, kind := range kinds {
 		err := New(kind, i+3)
 		for j, other := range kinds {
@@ -22,7 +22,7 @@ func TestEachKindIsItsOwn(t *testing.T) {
 }
 
 func TestMessage(t *testing.T) {
-	if got := New(Syntax, 12).Error(); got != "no pattern at byte 12" {
+	if got := New(Syntax, 12).Error(); got != "no pattern at 12" {
 		t.Errorf("got %q", got)
 	}
 }

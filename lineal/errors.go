@@ -24,6 +24,10 @@ func number(err error) api.Errno {
 		return api.ErrDeep
 	case errors.Is(err, fault.Big):
 		return api.ErrBig
+	case errors.Is(err, fault.Tree):
+		return api.ErrTree
+	case errors.Is(err, fault.Schema):
+		return api.ErrSchema
 	}
 	return api.ErrSyntax
 }

@@ -4,9 +4,12 @@ package lineal
 import (
 	"lineal/api"
 	"lineal/chars"
+	"lineal/document"
+	"lineal/hold"
 	"lineal/parse"
 	"lineal/part"
 	"lineal/program"
+	"lineal/schema"
 	"lineal/store"
 )
 
@@ -67,5 +70,13 @@ func (f *Finder) Live() int { return f.store.Live() }
 
 // Validate holds a document against schemas (P11).
 func Validate(nodes []api.Node, schemas []api.Schema) ([]api.Failure, api.Errno, int) {
-	return nil, api.OK, 0
+	tree, err := document.Read(nodes)
+	if err != nil {
+		return nil, number(err), place(err)
+	}
+	rules, err := schema.Read(schemas)
+	if err != nil {
+		return nil, number(err), place(err)
+	}
+	return hold.Failures(tree, rules), api.OK, 0
 }
